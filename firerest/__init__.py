@@ -1,0 +1,1 @@
+"""Firerest: webs whose places fire, rest and are ready again."""

@@ -1,0 +1,106 @@
+"""Runs over numbers of beats that are far too great to go beat by beat."""
+
+from firerest.beats import add_firings, masks_of_scene, next_masks, poked_mask
+from firerest.beats import scene_of_masks, turns_between
+from firerest.books import given_book
+from firerest.leads import state_lead
+from firerest.masks import mask_of
+from firerest.shapes import pieces
+from firerest.tables import Table
+
+
+def lead_table(scene):
+    """Return the table of the leads, with 0 for staying where one is."""
+    places = range(scene.web.size)
+    return Table([[table_entry(scene, a, b) for b in places] for a in places])
+
+
+def table_entry(scene, a, b):
+    """Return the gain of going from one place to another in one beat, or None."""
+    if a == b:
+        return 0
+    if (a, b) in scene.web:
+        return state_lead(scene.picture[a], scene.picture[b])
+    return None
+
+
+def far_run(scene, beats, book=None):
+    """Return the scene at beat `beats`."""
+    return far_course(scene, beats, book)[0]
+
+
+def far_counts(scene, beats, book=None):
+    """Return how often each place fires up to beat `beats`."""
+    return far_course(scene, beats, book)[1]
+
+
+def far_turns(scene, beats, book=None):
+    """Return how often the state of each place changes up to beat `beats`."""
+    last, many = far_course(scene, beats, book)
+    return turns_between(scene, many, last)
+
+
+def far_course(scene, beats, book):
+    """Return the scene at beat `beats` and the firings of each place up to it.
+
+    Each piece runs for itself: its pictures come back soon, while those of
+    the whole scene may come back only after the product of many periods.
+    """
+    web = scene.web
+    fired, resting = masks_of_scene(scene)
+    pokes = poke_masks(web, beats, given_book(book))
+    many = [0] * web.size
+    last_fired = 0
+    last_resting = 0
+    for piece in pieces(web):
+        inside = mask_of(piece)
+        own = [(beat, poked & inside) for beat, poked in pokes if poked & inside != 0]
+        masks = piece_course(web.masks, (fired & inside, resting & inside), beats, own, many)
+        last_fired = last_fired | masks[0]
+        last_resting = last_resting | masks[1]
+    return scene_of_masks(web, (last_fired, last_resting)), tuple(many)
+
+
+def poke_masks(web, beats, book):
+    """Return (beat, mask of the poked places) for the beats with pokes below `beats`."""
+    times = sorted(set([beat for beat, _ in book.pokes if beat < beats]))
+    return [(beat, poked_mask(web, book.at(beat))) for beat in times]
+
+
+def piece_course(near, masks, beats, pokes, many):
+    """Return the masks of a piece at beat `beats`; add its firings to `many`."""
+    now = 0
+    for beat, poked in pokes:
+        masks = next_masks(near, leap(near, masks, beat - now, many), poked)
+        add_firings(many, [masks], 1)
+        now = beat + 1
+    return leap(near, masks, beats - now, many)
+
+
+def leap(near, masks, beats, many):
+    """Return the masks after `beats` beats alone; add the firings to `many`."""
+    along, first = masks_alone(near, masks, beats)
+    if first is None:
+        add_firings(many, along[1:], 1)
+        return along[-1]
+    rounds, rest = divmod(beats - first, len(along) - 1 - first)
+    add_firings(many, along[1:first + 1], 1)
+    add_firings(many, along[first + 1:], rounds)
+    add_firings(many, along[first + 1:first + 1 + rest], 1)
+    return along[first + rest]
+
+
+def masks_alone(near, masks, beats):
+    """Return the masks at the beats 0, 1, .. up to `beats` or until they come back.
+
+    The second value is the beat at which the last ones stood before, or None.
+    """
+    along = [masks]
+    seen = {}
+    while len(along) <= beats:
+        seen[masks] = len(along) - 1
+        masks = next_masks(near, masks, 0)
+        along.append(masks)
+        if masks in seen:
+            return along, seen[masks]
+    return along, None

@@ -1,0 +1,48 @@
+"""The names of the interface: each is defined in the file that lists it."""
+
+import importlib
+import unittest
+
+FUNCTIONS = {
+    "webs": ("is_walk", "is_ring"),
+    "shapes": ("pieces", "piece_of", "distances", "joined", "parted"),
+    "blocks": ("blocks",),
+    "scenes": ("all_ready", "mirror", "turned", "beside", "taken_out", "part", "picture_text",
+               "scene_of_text"),
+    "runs": ("step", "run", "film", "counts", "firings", "turns", "waits"),
+    "leads": ("lead", "gap", "lead_sum", "gap_sum"),
+    "rings": ("forest", "basic_rings", "ring_sums", "heights", "uneven_ring"),
+    "tables": ("one_table", "power", "greatest_gains"),
+    "far": ("lead_table", "far_run", "far_counts", "far_turns"),
+}
+
+METHODS = {
+    ("webs", "Web"): ("near", "__contains__", "__len__", "__iter__", "__add__", "__eq__"),
+    ("scenes", "Scene"): ("__eq__",),
+    ("books", "Book"): ("at", "until", "since", "about", "within", "__rshift__", "__or__",
+                        "__contains__", "__len__", "__iter__", "__eq__"),
+    ("books", "Pace"): ("at", "book", "since", "__eq__"),
+    ("tables", "Table"): ("gain", "__mul__", "__or__", "__eq__"),
+}
+
+
+class InterfaceTest(unittest.TestCase):
+
+    def test_functions(self):
+        for name, functions in FUNCTIONS.items():
+            module = importlib.import_module("firerest." + name)
+            for function in functions:
+                self.assertEqual(getattr(module, function).__module__, module.__name__)
+                self.assertEqual(getattr(module, function).__name__, function)
+
+    def test_classes(self):
+        for (name, kind), methods in METHODS.items():
+            module = importlib.import_module("firerest." + name)
+            made = getattr(module, kind)
+            self.assertEqual(made.__module__, module.__name__)
+            for method in methods:
+                self.assertIn(method, vars(made))
+
+
+if __name__ == "__main__":
+    unittest.main()
