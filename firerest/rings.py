@@ -40,10 +40,15 @@ def way_up(parents, place):
 
 
 def tree_way(parents, a, b):
-    """Return the way from `a` to `b` over parents that passes no place twice."""
+    """Return the way over parents that leads from `a` to its neighbour `b`.
+
+    Neither of them is the parent of the other one.
+    """
     left = way_up(parents, a)
     right = way_up(parents, b)
-    while len(left) > 1 and len(right) > 1 and left[-2] == right[-2]:
+    # Neighbours are found in the same round or in two rounds that follow one
+    # another: so one is above the other only if it is its parent.
+    while left[-2] == right[-2]:
         left.pop()
         right.pop()
     return left + right[:-1][::-1]

@@ -29,7 +29,7 @@ def some_pokes():
         pokes = [(chance.randint(0, 12), chance.randint(0, 5)) for _ in range(chance.randint(0, 30))]
         pokes += [(chance.choice(BEATS), chance.choice((0, 3, 10 ** 33))) for _ in range(4)]
         found.append(pokes + pokes[:3])
-    found.append([(chance.randint(0, 99), chance.randint(0, 59)) for _ in range(400)])
+    found.append([(chance.randint(0, 99), chance.randint(0, 59)) for _ in range(360)])
     return found
 
 

@@ -6,7 +6,7 @@ import unittest
 from firerest.books import Book
 from firerest.far import far_counts, far_run, far_turns, lead_table
 from firerest.runs import counts, run, turns
-from firerest.scenes import Scene, all_ready, beside
+from firerest.scenes import Scene, all_ready, beside, scene_of_text
 from firerest.tables import greatest_gains, power
 from firerest.webs import Web
 from tests.support import FAR, Case, counts_of, lead_of, near_of, next_picture, pieces_of
@@ -215,6 +215,20 @@ class FarTest(Case):
             self.same(far_counts(scene, beats), tuple(many))
             self.same(far_turns(scene, beats), turns_told(scene, picture, many))
             self.check(scene, beats, [(10 ** 11, 40), (beats - 3, 5), (beats - 1, 30), (beats, 1)])
+
+    def test_pieces_that_come_back_late(self):
+        # Rings of 12, 20 and 28 places in one piece: it comes back after 420 beats.
+        text = ("..*o.*o..*o." "o..*o.*o.*o....." "*o.*o.*o..*o.*o......*o.*o.*o..*")
+        lines = ring_lines(12) + ring_lines(20, 12) + ring_lines(28, 32) + [(0, 12), (13, 33)]
+        three = scene_of_text(Web(60, lines), text)
+        # Two rings with nearly the same share: the faster one needs long to win.
+        waves = [[1 if (i * many) % size < many else 2 if (i * many - many) % size < many else 0
+                  for i in range(size)] for size, many in ((28, 9), (31, 10))]
+        close = Scene(Web(60, ring_lines(28) + ring_lines(31, 28) + [(0, 28)]), sum(waves, []) + [0])
+        for scene in (three, close):
+            for beats in FAR_BEATS + (131, 132, 551, 552, 2999):
+                self.check(scene, beats)
+                self.check(scene, beats, [(beats // 2, 5), (beats - 100, 40), (beats - 99, 14)])
 
     def test_silent_and_lasting(self):
         quiet = all_ready(Web(20, thread_lines(20)))

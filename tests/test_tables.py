@@ -71,7 +71,7 @@ class TableTest(Case):
 
     def test_bad_table(self):
         for size in (1, 2, 3, 60):
-            for index in range(size):
+            for index in sorted({0, size // 2, size - 1}):
                 for many in (0, size - 1, size + 1, size + 7):
                     rows = [[0] * size for _ in range(size)]
                     rows[index] = [0] * many

@@ -1,0 +1,124 @@
+"""Asking many questions again and in other orders: point 3."""
+
+import random
+import unittest
+
+from firerest.blocks import blocks
+from firerest.books import Book, Pace
+from firerest.errors import FirerestError
+from firerest.far import far_counts, far_run, far_turns, lead_table
+from firerest.leads import gap, gap_sum, lead, lead_sum
+from firerest.rings import basic_rings, forest, heights, ring_sums, uneven_ring
+from firerest.runs import counts, film, firings, run, step, turns, waits
+from firerest.scenes import Scene, all_ready, beside, mirror, part, picture_text
+from firerest.scenes import scene_of_text, taken_out, turned
+from firerest.shapes import distances, joined, parted, piece_of, pieces
+from firerest.tables import Table, greatest_gains, one_table, power
+from firerest.webs import Web, is_ring, is_walk
+from tests.support import FAR, Case, has_list, random_scene, ring_lines, shown
+
+
+def films(*arguments):
+    """Return the whole film as a tuple."""
+    return tuple(film(*arguments))
+
+
+def questions_of_web(web):
+    """Return questions about a web."""
+    found = [(function, (web,)) for function in (pieces, blocks, forest, basic_rings, all_ready, len)]
+    for place in (0, 1, web.size - 1, web.size, -1):
+        found += [(web.near, (place,)), (piece_of, (web, place)), (distances, (web, (place, 0)))]
+        found += [(joined, (web, 0, place)), (parted, (web, place, 0)), (parted, (web, 1, place))]
+        found += [(function, (web, (0, place, 0))) for function in (is_walk, is_ring)]
+    return found
+
+
+def questions_of_scene(scene, book):
+    """Return questions about a scene, with a book."""
+    found = [(function, (scene,)) for function in (mirror, picture_text, step, ring_sums, lead_table)]
+    found += [(turned, (scene, many)) for many in (1, -1, FAR)] + [(beside, (scene, scene))]
+    found += [(Scene, (scene.web, scene.picture)), (scene_of_text, (scene.web, picture_text(scene)))]
+    for beats in (0, 1, 6):
+        for function in (run, counts, turns, waits, far_run, far_counts, far_turns, films):
+            found += [(function, (scene, beats)), (function, (scene, beats, book))]
+    for place in (0, 1, scene.web.size - 1, scene.web.size, -1):
+        found += [(function, (scene, (place, 0))) for function in (taken_out, part, step)]
+        found += [(function, (scene, 0, place)) for function in (lead, gap)]
+        found += [(function, (scene, (0, place, 0))) for function in (lead_sum, gap_sum)]
+        found += [(function, (scene, place)) for function in (heights, uneven_ring)]
+        found += [(firings, (scene, place, 7)), (firings, (scene, place, 7, book))]
+    return found + [(function, (scene, FAR, book)) for function in (far_run, far_counts, far_turns)]
+
+
+def questions_of_rest(book, pace, table):
+    """Return questions about a book, a pace and a table."""
+    found = [(Book, (book.pokes,)), (Pace, (pace.period, pace.pokes)), (Table, (table.rows,))]
+    for number in (0, 1, 3, FAR):
+        found += [(function, (number,)) for function in (book.at, book.until, book.since, book.about)]
+        found += [(function, (number,)) for function in (pace.at, pace.since)]
+        found += [(power, (table, number)), (table.gain, (0, number)), (table.gain, (number, 0))]
+    found += [(pace.book, (9,)), (book.within, (book,)), (len, (book,)), (one_table, (3,))]
+    return found + [(greatest_gains, (table,)), (list, (book,)), (Table, (((0,), (1, 2)),))]
+
+
+def told(question):
+    """Return what the question is answered, also if that is an error."""
+    function, arguments = question
+    try:
+        return shown(function(*arguments))
+    except FirerestError as error:
+        return (type(error).__name__, sorted(vars(error).items()))
+
+
+class AskingTest(Case):
+
+    def test_asking_again(self):
+        chance = random.Random(110)
+        things, asked = [], []
+        for size in (2, 3, 4, 5, 5, 8, 8, 13, 20):
+            scene = random_scene(chance, size, size + 2)
+            book = Book([(chance.randrange(8), chance.randrange(size)) for _ in range(5)] + [(FAR, 0)])
+            pace = Pace(size, [(chance.randrange(size), chance.randrange(size)) for _ in range(5)])
+            table = Table([[chance.choice((None, 1, -2, 0)) for _ in range(size)] for _ in range(size)])
+            things += [scene.web, scene, book, pace, table]
+            asked += questions_of_web(scene.web) + questions_of_scene(scene, book)
+            asked += questions_of_rest(book, pace, table)
+        before = [shown(thing) for thing in things]
+        answers = [told(question) for question in asked]
+        for question, answer in zip(asked, answers):
+            if question[0] is not list:
+                self.assertFalse(has_list(answer), question)
+        order = list(range(len(asked)))
+        for _ in range(3):
+            chance.shuffle(order)
+            for index in order:
+                self.assertEqual(told(asked[index]), answers[index], asked[index])
+        self.assertEqual([shown(thing) for thing in things], before)
+
+    def test_equal_objects_have_equal_answers(self):
+        chance = random.Random(111)
+        for _ in range(10):
+            one = random_scene(chance, 9, 11)
+            lines = [line[::-1] for line in one.web.lines[::-1]] + list(one.web.lines)
+            two = Scene(Web(9, lines), list(one.picture))
+            book = Book([(2, 3), (5, 1), (FAR, 2)])
+            other = Book([[5, 1], [FAR, 2], [2, 3], [2, 3]])
+            for question, again in zip(questions_of_scene(one, book), questions_of_scene(two, other)):
+                self.assertEqual(told(question), told(again), question)
+            for question, again in zip(questions_of_web(one.web), questions_of_web(two.web)):
+                self.assertEqual(told(question), told(again), question)
+
+    def test_webs_that_differ_in_one_line(self):
+        web = Web(6, ring_lines(6))
+        scene = Scene(web, [1, 2, 0, 0, 0, 0])
+        for a, b in web.lines:
+            less = Scene(parted(web, a, b), scene.picture)
+            self.assertIs(run(less, 12).picture == run(scene, 12).picture, False)
+            self.same(run(scene, 12).picture, scene.picture)
+            self.same(pieces(less.web), ((0, 1, 2, 3, 4, 5),))
+            self.same(heights(scene, 0), None)
+            self.assertIsNotNone(heights(less, 0))
+
+
+if __name__ == "__main__":
+    unittest.main()
