@@ -102,3 +102,8 @@ def places_by_time(pokes):
 def given_book(book):
     """Return the book that was passed; None stands for one without pokes."""
     return Book() if book is None else book
+
+
+def given_pace(pace):
+    """Return the pace that was passed; None stands for period 1 without pokes."""
+    return Pace(1) if pace is None else pace

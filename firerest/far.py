@@ -1,11 +1,9 @@
 """Runs over numbers of beats that are far too great to go beat by beat."""
 
-from firerest.beats import add_firings, masks_of_scene, next_masks, poked_mask
-from firerest.beats import scene_of_masks, turns_between
+from firerest.beats import add_firings, next_masks, poked_mask, scene_of_masks, turns_between
 from firerest.books import given_book
 from firerest.leads import state_lead
-from firerest.masks import mask_of
-from firerest.shapes import pieces
+from firerest.rounds import NO_POKES, leap, masks_by_piece
 from firerest.tables import Table
 
 
@@ -47,17 +45,15 @@ def far_course(scene, beats, book):
     the whole scene may come back only after the product of many periods.
     """
     web = scene.web
-    fired, resting = masks_of_scene(scene)
     pokes = poke_masks(web, beats, given_book(book))
     many = [0] * web.size
     last_fired = 0
     last_resting = 0
-    for piece in pieces(web):
-        inside = mask_of(piece)
+    for inside, masks in masks_by_piece(scene):
         own = [(beat, poked & inside) for beat, poked in pokes if poked & inside != 0]
-        masks = piece_course(web.masks, (fired & inside, resting & inside), beats, own, many)
-        last_fired = last_fired | masks[0]
-        last_resting = last_resting | masks[1]
+        fired, resting = piece_course(web.masks, masks, beats, own, many)
+        last_fired = last_fired | fired
+        last_resting = last_resting | resting
     return scene_of_masks(web, (last_fired, last_resting)), tuple(many)
 
 
@@ -71,36 +67,7 @@ def piece_course(near, masks, beats, pokes, many):
     """Return the masks of a piece at beat `beats`; add its firings to `many`."""
     now = 0
     for beat, poked in pokes:
-        masks = next_masks(near, leap(near, masks, beat - now, many), poked)
+        masks = next_masks(near, leap(near, masks, NO_POKES, beat - now, many), poked)
         add_firings(many, [masks], 1)
         now = beat + 1
-    return leap(near, masks, beats - now, many)
-
-
-def leap(near, masks, beats, many):
-    """Return the masks after `beats` beats alone; add the firings to `many`."""
-    along, first = masks_alone(near, masks, beats)
-    if first is None:
-        add_firings(many, along[1:], 1)
-        return along[-1]
-    rounds, rest = divmod(beats - first, len(along) - 1 - first)
-    add_firings(many, along[1:first + 1], 1)
-    add_firings(many, along[first + 1:], rounds)
-    add_firings(many, along[first + 1:first + 1 + rest], 1)
-    return along[first + rest]
-
-
-def masks_alone(near, masks, beats):
-    """Return the masks at the beats 0, 1, .. up to `beats` or until they come back.
-
-    The second value is the beat at which the last ones stood before, or None.
-    """
-    along = [masks]
-    seen = {}
-    while len(along) <= beats:
-        seen[masks] = len(along) - 1
-        masks = next_masks(near, masks, 0)
-        along.append(masks)
-        if masks in seen:
-            return along, seen[masks]
-    return along, None
+    return leap(near, masks, NO_POKES, beats - now, many)

@@ -29,6 +29,13 @@ SHEET_ERRORS = (
 # Each is passed for a place of a web with this size, which it is not.
 NO_PLACES = (-1, -2, -10 ** 30, 10 ** 30, -FAR - 1)
 
+# The fields of the objects, by which they are told apart.
+OBJECTS = (
+    ("size", "lines"), ("web", "picture"), ("period", "pokes"), ("pokes",), ("rows", "size"),
+    ("places", "silent", "heights", "ring", "totals", "lasts", "last", "quiet"),
+    ("share", "ring", "slopes"), ("first", "period", "gains"),
+)
+
 # Nothing of the program equals one of these.
 OTHERS = (None, 0, 1, True, "", "web", (), [], (0, ()), {}, 3, object())
 
@@ -56,8 +63,7 @@ def shown(value):
     """Return the value with all that its objects hold, and with its kinds."""
     if isinstance(value, (list, tuple)):
         return (type(value).__name__, [shown(item) for item in value])
-    for names in (("size", "lines"), ("web", "picture"), ("period", "pokes"), ("pokes",),
-                  ("rows", "size")):
+    for names in OBJECTS:
         if all(hasattr(value, name) for name in names):
             return (type(value).__name__, [shown(getattr(value, name)) for name in names])
     return (type(value).__name__, value)

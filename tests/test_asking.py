@@ -7,14 +7,20 @@ from firerest.blocks import blocks
 from firerest.books import Book, Pace
 from firerest.errors import FirerestError
 from firerest.far import far_counts, far_run, far_turns, lead_table
+from firerest.fates import fates, is_silent
 from firerest.leads import gap, gap_sum, lead, lead_sum
+from firerest.longwalks import long_walk, row_facts
+from firerest.repeats import repeat, repeat_counts, repeat_run
 from firerest.rings import basic_rings, forest, heights, ring_sums, uneven_ring
 from firerest.runs import counts, film, firings, run, step, turns, waits
 from firerest.scenes import Scene, all_ready, beside, mirror, part, picture_text
 from firerest.scenes import scene_of_text, taken_out, turned
 from firerest.shapes import distances, joined, parted, piece_of, pieces
+from firerest.shares import are_slopes, is_share_ring, share, share_paper
 from firerest.tables import Table, greatest_gains, one_table, power
+from firerest.trails import best_trail, trail_gain
 from firerest.webs import Web, is_ring, is_walk
+from firerest.wheels import are_paced_slopes, is_paced_ring, paced_paper, paced_share
 from tests.support import FAR, Case, has_list, random_scene, ring_lines, shown
 
 
@@ -50,6 +56,35 @@ def questions_of_scene(scene, book):
     return found + [(function, (scene, FAR, book)) for function in (far_run, far_counts, far_turns)]
 
 
+def questions_of_trails(scene, book):
+    """Return questions about trails, row lists, fates and shares."""
+    found = [(fates, (scene,)), (is_silent, (scene,))]
+    rows = (("stay", 0), ("step", 0, 1), ("both", 0, 1), ("both", 2, 2))
+    found += [(row_facts, (scene, rows[:many])) for many in range(5)]
+    for place in (0, 1, scene.web.size - 1, scene.web.size, -1):
+        found += [(function, (scene, place)) for function in (share, share_paper)]
+        found += [(best_trail, (scene, place, beats, book)) for beats in (0, 9)]
+        found += [(long_walk, (scene, place, beats)) for beats in (0, 9, FAR)]
+        found += [(trail_gain, (scene, ((0, 2), (0, 1), (place, 0)), book))]
+        found += [(is_share_ring, (scene, pair, (0, place, 0))) for pair in ((0, 2), (1, 3))]
+        found += [(are_slopes, (scene, place, (1, 1), (0,) * many)) for many in (1, scene.web.size)]
+    return found
+
+
+def questions_of_paces(scene, pace):
+    """Return questions about a scene with a pace."""
+    found = [(repeat, (scene,)), (repeat, (scene, pace))]
+    for beats in (0, 9, FAR):
+        found += [(function, (scene, beats, pace)) for function in (repeat_run, repeat_counts)]
+    for place in (0, 1, scene.web.size - 1, scene.web.size, -1):
+        found += [(function, (scene, place, pace)) for function in (paced_share, paced_paper)]
+        ring = ((place, pace.period + 1), (place, pace.period))
+        found += [(is_paced_ring, (scene, pace, (0, 1), ring)), (is_paced_ring, (scene, pace, (0, 1), ()))]
+        rows = ((0,) * pace.period,) * scene.web.size
+        found += [(are_paced_slopes, (scene, place, pace, (1, 1), tried)) for tried in (rows, rows[1:])]
+    return found
+
+
 def questions_of_rest(book, pace, table):
     """Return questions about a book, a pace and a table."""
     found = [(Book, (book.pokes,)), (Pace, (pace.period, pace.pokes)), (Table, (table.rows,))]
@@ -83,6 +118,7 @@ class AskingTest(Case):
             things += [scene.web, scene, book, pace, table]
             asked += questions_of_web(scene.web) + questions_of_scene(scene, book)
             asked += questions_of_rest(book, pace, table)
+            asked += questions_of_trails(scene, book) + questions_of_paces(scene, pace)
         before = [shown(thing) for thing in things]
         answers = [told(question) for question in asked]
         for question, answer in zip(asked, answers):
@@ -104,6 +140,12 @@ class AskingTest(Case):
             book = Book([(2, 3), (5, 1), (FAR, 2)])
             other = Book([[5, 1], [FAR, 2], [2, 3], [2, 3]])
             for question, again in zip(questions_of_scene(one, book), questions_of_scene(two, other)):
+                self.assertEqual(told(question), told(again), question)
+            for question, again in zip(questions_of_trails(one, book), questions_of_trails(two, other)):
+                self.assertEqual(told(question), told(again), question)
+            paces = Pace(4, [(3, 1), (2, 0)]), Pace(4, [[2, 0], [3, 1], [2, 0]])
+            pairs = zip(questions_of_paces(one, paces[0]), questions_of_paces(two, paces[1]))
+            for question, again in pairs:
                 self.assertEqual(told(question), told(again), question)
             for question, again in zip(questions_of_web(one.web), questions_of_web(two.web)):
                 self.assertEqual(told(question), told(again), question)

@@ -57,7 +57,8 @@ class ExamplesTest(unittest.TestCase):
             self.assertTrue(code and wanted)
             many[heading] = many.get(heading, 0) + 1
         wanted = {"webs": 4, "shapes": 3, "blocks": 1, "scenes": 3, "books": 2, "runs": 2,
-                  "leads": 2, "rings": 2, "tables": 2, "far": 2}
+                  "leads": 2, "rings": 2, "tables": 2, "far": 2, "trails": 2, "longwalks": 1,
+                  "fates": 2, "shares": 2, "wheels": 1, "repeats": 2}
         self.assertEqual(many, {f"firerest/{name}.py": count for name, count in wanted.items()})
 
 

@@ -14,6 +14,12 @@ FUNCTIONS = {
     "rings": ("forest", "basic_rings", "ring_sums", "heights", "uneven_ring"),
     "tables": ("one_table", "power", "greatest_gains"),
     "far": ("lead_table", "far_run", "far_counts", "far_turns"),
+    "trails": ("trail_gain", "best_trail"),
+    "longwalks": ("row_facts", "long_walk"),
+    "fates": ("is_silent", "fates"),
+    "shares": ("share", "share_paper", "is_share_ring", "are_slopes"),
+    "wheels": ("paced_share", "paced_paper", "is_paced_ring", "are_paced_slopes"),
+    "repeats": ("repeat", "repeat_run", "repeat_counts"),
 }
 
 METHODS = {
@@ -23,6 +29,10 @@ METHODS = {
                         "__contains__", "__len__", "__iter__", "__eq__"),
     ("books", "Pace"): ("at", "book", "since", "__eq__"),
     ("tables", "Table"): ("gain", "__mul__", "__or__", "__eq__"),
+    ("fates", "Fate"): (),
+    ("shares", "SharePaper"): (),
+    ("wheels", "PacedPaper"): (),
+    ("repeats", "Repeat"): (),
 }
 
 
