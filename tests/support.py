@@ -29,12 +29,16 @@ SHEET_ERRORS = (
 # Each is passed for a place of a web with this size, which it is not.
 NO_PLACES = (-1, -2, -10 ** 30, 10 ** 30, -FAR - 1)
 
-# The fields of the objects, by which they are told apart.
-OBJECTS = (
-    ("size", "lines"), ("web", "picture"), ("period", "pokes"), ("pokes",), ("rows", "size"),
-    ("places", "silent", "heights", "ring", "totals", "lasts", "last", "quiet"),
-    ("share", "ring", "slopes"), ("first", "period", "gains"),
-)
+# The fields of the objects of each class.
+HELD = {
+    "Web": ("size", "lines"), "Scene": ("web", "picture"), "Book": ("pokes",),
+    "Pace": ("period", "pokes"), "Table": ("rows", "size"),
+    "Fate": ("places", "silent", "heights", "ring", "totals", "lasts", "last", "quiet"),
+    "SharePaper": ("share", "ring", "slopes"), "PacedPaper": ("share", "ring", "slopes"),
+    "Repeat": ("first", "period", "gains"), "Wish": ("scene", "ring"),
+    "Leading": ("book", "ring", "place", "lag", "waits"),
+    "Watch": ("scene", "beats", "records", "suspects"),
+}
 
 # Nothing of the program equals one of these.
 OTHERS = (None, 0, 1, True, "", "web", (), [], (0, ()), {}, 3, object())
@@ -61,12 +65,12 @@ def spoil(value):
 
 def shown(value):
     """Return the value with all that its objects hold, and with its kinds."""
+    name = type(value).__name__
     if isinstance(value, (list, tuple)):
-        return (type(value).__name__, [shown(item) for item in value])
-    for names in OBJECTS:
-        if all(hasattr(value, name) for name in names):
-            return (type(value).__name__, [shown(getattr(value, name)) for name in names])
-    return (type(value).__name__, value)
+        return (name, [shown(item) for item in value])
+    if name in HELD:
+        return (name, [shown(getattr(value, field)) for field in HELD[name]])
+    return (name, value)
 
 
 def has_list(value):

@@ -3,11 +3,14 @@
 import random
 import unittest
 
+from firerest.backs import age, back, before_count, befores, is_seen, latest_start
 from firerest.blocks import blocks
 from firerest.books import Book, Pace
 from firerest.errors import FirerestError
 from firerest.far import far_counts, far_run, far_turns, lead_table
 from firerest.fates import fates, is_silent
+from firerest.lags import lags, tight_places, unlike_ring
+from firerest.leading import can_lead, is_never, leading, least_beats, why_never
 from firerest.leads import gap, gap_sum, lead, lead_sum
 from firerest.longwalks import long_walk, row_facts
 from firerest.repeats import repeat, repeat_counts, repeat_run
@@ -19,14 +22,21 @@ from firerest.shapes import distances, joined, parted, piece_of, pieces
 from firerest.shares import are_slopes, is_share_ring, share, share_paper
 from firerest.tables import Table, greatest_gains, one_table, power
 from firerest.trails import best_trail, trail_gain
+from firerest.watches import Watch
 from firerest.webs import Web, is_ring, is_walk
 from firerest.wheels import are_paced_slopes, is_paced_ring, paced_paper, paced_share
+from firerest.wishes import has_wish, wish, wished_sum
 from tests.support import FAR, Case, has_list, random_scene, ring_lines, shown
 
 
 def films(*arguments):
     """Return the whole film as a tuple."""
     return tuple(film(*arguments))
+
+
+def before_pictures(scene):
+    """Return the pictures of up to 99 scenes that are one step before."""
+    return tuple(before.picture for before, _ in zip(befores(scene), range(99)))
 
 
 def questions_of_web(web):
@@ -85,6 +95,29 @@ def questions_of_paces(scene, pace):
     return found
 
 
+def questions_of_backs(scene, book):
+    """Return questions about lags, leading, starts, wishes and watches."""
+    web = scene.web
+    later, other = step(scene, (0, 1)), Scene(web, scene.picture[::-1])
+    found = [(function, (scene,)) for function in (tight_places, age, before_count, before_pictures)]
+    found += [(function, (later,)) for function in (tight_places, age, before_count, before_pictures)]
+    for pair in ((scene, later), (later, scene), (scene, other), (scene, all_ready(Web(1)))):
+        found += [(function, pair) for function in (lags, unlike_ring, why_never, least_beats)]
+        found += [(function, pair + (beats,)) for function in (can_lead, leading) for beats in (0, 1, 9, 60)]
+        for why in (("unlike", (0, 1, 0)), ("tight", (0, 2, 1, 0), 1), ("apart", (0, 1), (1, 0))):
+            found.append((is_never, pair + (why,)))
+    for beats in (0, 1, 9):
+        found += [(function, (scene, beats, book)) for function in (is_seen, latest_start)]
+    found += [(back, (scene, poked)) for poked in ((), (0, 1, -1, FAR))]
+    for sums in ((0,) * len(web), (60,) * len(web)):
+        found += [(wish, (web, sums)), (has_wish, (scene, sums))]
+        found += [(wished_sum, (web, sums, (0, place))) for place in (0, 1, web.size, -1)]
+    state = scene.picture[0]
+    records = ((0, (state, 0 if state == 2 else state + 1)),)
+    found += [(Watch, (scene, beats, records, (1, 0, 1))) for beats in (0, 1)]
+    return found + [(Watch, (scene, 1, records + records, (place,))) for place in (0, -1)]
+
+
 def questions_of_rest(book, pace, table):
     """Return questions about a book, a pace and a table."""
     found = [(Book, (book.pokes,)), (Pace, (pace.period, pace.pokes)), (Table, (table.rows,))]
@@ -119,6 +152,7 @@ class AskingTest(Case):
             asked += questions_of_web(scene.web) + questions_of_scene(scene, book)
             asked += questions_of_rest(book, pace, table)
             asked += questions_of_trails(scene, book) + questions_of_paces(scene, pace)
+            asked += questions_of_backs(scene, book)
         before = [shown(thing) for thing in things]
         answers = [told(question) for question in asked]
         for question, answer in zip(asked, answers):
@@ -141,8 +175,9 @@ class AskingTest(Case):
             other = Book([[5, 1], [FAR, 2], [2, 3], [2, 3]])
             for question, again in zip(questions_of_scene(one, book), questions_of_scene(two, other)):
                 self.assertEqual(told(question), told(again), question)
-            for question, again in zip(questions_of_trails(one, book), questions_of_trails(two, other)):
-                self.assertEqual(told(question), told(again), question)
+            for function in (questions_of_trails, questions_of_backs):
+                for question, again in zip(function(one, book), function(two, other)):
+                    self.assertEqual(told(question), told(again), question)
             paces = Pace(4, [(3, 1), (2, 0)]), Pace(4, [[2, 0], [3, 1], [2, 0]])
             pairs = zip(questions_of_paces(one, paces[0]), questions_of_paces(two, paces[1]))
             for question, again in pairs:

@@ -58,7 +58,8 @@ class ExamplesTest(unittest.TestCase):
             many[heading] = many.get(heading, 0) + 1
         wanted = {"webs": 4, "shapes": 3, "blocks": 1, "scenes": 3, "books": 2, "runs": 2,
                   "leads": 2, "rings": 2, "tables": 2, "far": 2, "trails": 2, "longwalks": 1,
-                  "fates": 2, "shares": 2, "wheels": 1, "repeats": 2}
+                  "fates": 2, "shares": 2, "wheels": 1, "repeats": 2, "wishes": 1, "lags": 2,
+                  "leading": 2, "backs": 2, "watches": 1}
         self.assertEqual(many, {f"firerest/{name}.py": count for name, count in wanted.items()})
 
 

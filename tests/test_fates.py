@@ -102,7 +102,7 @@ class FatesTest(Case):
         self.check(ring_scene(60))
         self.check(Scene(Web(60, ring_lines(60)), [1, 2] * 30))
         self.check(Scene(Web(60, thread_lines(60)), [1] + [0] * 59))
-        self.check(Scene(Web(60, itertools.combinations(range(60), 2)), [1] * 20 + [0] * 40))
+        self.check(Scene(Web(60, list(itertools.combinations(range(60), 2))), [1] * 20 + [0] * 40))
 
     def test_heights_and_distances(self):
         chance = random.Random(222)

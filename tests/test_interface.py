@@ -20,6 +20,10 @@ FUNCTIONS = {
     "shares": ("share", "share_paper", "is_share_ring", "are_slopes"),
     "wheels": ("paced_share", "paced_paper", "is_paced_ring", "are_paced_slopes"),
     "repeats": ("repeat", "repeat_run", "repeat_counts"),
+    "wishes": ("wish", "wished_sum", "has_wish"),
+    "lags": ("lags", "unlike_ring", "tight_places"),
+    "leading": ("leading", "can_lead", "why_never", "is_never", "least_beats"),
+    "backs": ("back", "is_seen", "latest_start", "age", "befores", "before_count"),
 }
 
 METHODS = {
@@ -33,6 +37,9 @@ METHODS = {
     ("shares", "SharePaper"): (),
     ("wheels", "PacedPaper"): (),
     ("repeats", "Repeat"): (),
+    ("wishes", "Wish"): (),
+    ("leading", "Leading"): (),
+    ("watches", "Watch"): ("__init__",),
 }
 
 

@@ -162,7 +162,7 @@ class SharePaperTest(Case):
 
     def test_large_papers(self):
         chance = random.Random(233)
-        full = Web(60, itertools.combinations(range(60), 2))
+        full = Web(60, list(itertools.combinations(range(60), 2)))
         scenes = [random_scene(chance, 60, many) for many in (70, 150, 600)]
         for scene in scenes + [Scene(full, [k % 3 for k in range(60)]), all_ready(full)]:
             piece = pieces_of(scene.web)[0]
