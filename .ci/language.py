@@ -166,6 +166,52 @@ class Look:
                     self.say(node, "L20", "is")
 
 
+def functions_by_name(paths):
+    """Return (path, function) under each name by which a call may mean it.
+
+    A class stands for its `__init__`, a method for its bare name.
+    """
+    found = {}
+    for path in paths:
+        for node in ast.walk(ast.parse(path.read_text())):
+            if isinstance(node, ast.FunctionDef):
+                found.setdefault(node.name, []).append((path, node))
+            elif isinstance(node, ast.ClassDef):
+                made = [item for item in node.body if getattr(item, "name", "") == "__init__"]
+                found.setdefault(node.name, []).extend([(path, item) for item in made])
+    return found
+
+
+def is_operator(node):
+    """Tell whether a function is an operator, a property or the like, which changes nothing."""
+    if node.name in ("__init__", "__enter__", "__exit__", "__call__", "__setitem__"):
+        return False
+    return node.name in DUNDERS or bool(node.decorator_list)
+
+
+def products_in_operators(paths):
+    """Return a text for each product of a list in what an operator calls.
+
+    Where a class has a `__mul__`, such a product is not surely a new list, and
+    an operator changes only what it surely created (L5 with L28).
+    """
+    named = functions_by_name(paths)
+    todo = [pair for pairs in named.values() for pair in pairs if is_operator(pair[1])]
+    seen, found = set(), []
+    while todo:
+        path, node = todo.pop()
+        if (path, node.lineno) in seen:
+            continue
+        seen.add((path, node.lineno))
+        for inner in ast.walk(node):
+            if isinstance(inner, ast.Call):
+                todo += named.get(called(inner) or getattr(inner.func, "attr", ""), [])
+            elif isinstance(inner, ast.BinOp) and isinstance(inner.op, ast.Mult):
+                if isinstance(inner.left, ast.List) or isinstance(inner.right, ast.List):
+                    found.append(f"{path}:{inner.lineno}: L28 a product of a list, below an operator")
+    return found
+
+
 def rings_of_imports(package, paths):
     """Return a text for each file that imports from itself by way of others."""
     wants = {}
@@ -190,7 +236,7 @@ def main():
     """Look at all files of the package that is named."""
     package = pathlib.Path(sys.argv[1])
     paths = sorted(package.glob("*.py"))
-    faults = rings_of_imports(package, paths)
+    faults = rings_of_imports(package, paths) + products_in_operators(paths)
     for path in paths:
         look = Look(path, package)
         look.text_rules()

@@ -25,7 +25,7 @@ def places_of(mask):
 
 def near_masks(size, lines):
     """Return, for each of `size` places, the mask of its neighbours."""
-    near = [0] * size
+    near = [0 for _ in range(size)]
     for a, b in lines:
         near[a] = near[a] | (1 << b)
         near[b] = near[b] | (1 << a)
