@@ -1,9 +1,9 @@
 """Runs over numbers of beats that are far too great to go beat by beat."""
 
-from firerest.beats import add_firings, next_masks, poked_mask, scene_of_masks, turns_between
+from firerest.beats import add_firings, next_masks, poked_mask, turns_between
 from firerest.books import given_book
 from firerest.leads import state_lead
-from firerest.rounds import NO_POKES, leap, masks_by_piece
+from firerest.rounds import NO_POKES, leap, masks_by_piece, scene_of_parts
 from firerest.tables import Table
 
 
@@ -47,14 +47,11 @@ def far_course(scene, beats, book):
     web = scene.web
     pokes = poke_masks(web, beats, given_book(book))
     many = [0] * web.size
-    last_fired = 0
-    last_resting = 0
+    parts = []
     for inside, masks in masks_by_piece(scene):
         own = [(beat, poked & inside) for beat, poked in pokes if poked & inside != 0]
-        fired, resting = piece_course(web.masks, masks, beats, own, many)
-        last_fired = last_fired | fired
-        last_resting = last_resting | resting
-    return scene_of_masks(web, (last_fired, last_resting)), tuple(many)
+        parts.append(piece_course(web.masks, masks, beats, own, many))
+    return scene_of_parts(web, parts), tuple(many)
 
 
 def poke_masks(web, beats, book):

@@ -131,7 +131,7 @@ def long_walk(scene, place, beats):
     """Return a row list with a walk that gains as often as the place fires."""
     web = scene.web
     check_places(web, (place,))
-    masks = [masks for inside, masks in masks_by_piece(scene) if inside >> place & 1 == 1][0]
+    masks = [own for inside, own in masks_by_piece(scene) if inside >> place & 1 == 1][0]
     way = WayBack(web, masks, place, beats)
     found = RowList()
     places, start = way.until_round()

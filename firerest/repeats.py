@@ -2,9 +2,9 @@
 
 from math import lcm
 
-from firerest.beats import add_firings, scene_of_masks
+from firerest.beats import add_firings
 from firerest.books import given_pace
-from firerest.rounds import leap, masks_around, masks_by_piece, phase_masks
+from firerest.rounds import leap, masks_around, masks_by_piece, phase_masks, scene_of_parts
 
 
 class Repeat:
@@ -42,14 +42,11 @@ def paced_course(scene, beats, pace):
     web = scene.web
     poked = phase_masks(web, given_pace(pace))
     many = [0] * web.size
-    last_fired = 0
-    last_resting = 0
+    parts = []
     for inside, masks in masks_by_piece(scene):
         own = [mask & inside for mask in poked]
-        fired, resting = leap(web.masks, masks, own, beats, many)
-        last_fired = last_fired | fired
-        last_resting = last_resting | resting
-    return scene_of_masks(web, (last_fired, last_resting)), tuple(many)
+        parts.append(leap(web.masks, masks, own, beats, many))
+    return scene_of_parts(web, parts), tuple(many)
 
 
 def repeat_run(scene, beats, pace=None):

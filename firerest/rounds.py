@@ -3,7 +3,7 @@
 The pokes are given as `poked`: the mask of the poked places for each phase.
 """
 
-from firerest.beats import add_firings, masks_of_scene, next_masks, poked_mask
+from firerest.beats import add_firings, masks_of_scene, next_masks, poked_mask, scene_of_masks
 from firerest.masks import mask_of
 from firerest.shapes import pieces
 
@@ -20,6 +20,16 @@ def masks_by_piece(scene):
     fired, resting = masks_of_scene(scene)
     insides = [mask_of(piece) for piece in pieces(scene.web)]
     return [(inside, (fired & inside, resting & inside)) for inside in insides]
+
+
+def scene_of_parts(web, parts):
+    """Return the scene of the web whose pieces have these masks."""
+    all_fired = 0
+    all_resting = 0
+    for fired, resting in parts:
+        all_fired = all_fired | fired
+        all_resting = all_resting | resting
+    return scene_of_masks(web, (all_fired, all_resting))
 
 
 def masks_around(near, masks, poked, beats=None):

@@ -2,7 +2,7 @@
 
 from firerest.leads import lead_sum, state_lead
 from firerest.shapes import piece_of
-from firerest.slopes import are_slopes_of, greatest_share
+from firerest.slopes import are_slopes_of, greatest_share, ring_nodes
 from firerest.webs import is_ring
 
 
@@ -38,8 +38,7 @@ def share_paper(scene, place):
     """Return the share of the piece of a place, with a ring and slopes."""
     piece = piece_of(scene.web, place)
     most, ring, slopes = greatest_share(lead_ways(scene, piece))
-    places = [piece[way[0]] for way in ring]
-    return SharePaper(most, tuple(places[-1:] + places), tuple(slopes))
+    return SharePaper(most, tuple([piece[node] for node in ring_nodes(ring)]), tuple(slopes))
 
 
 def is_share_ring(scene, share, ring):

@@ -64,6 +64,12 @@ def ways_round(taken, node):
     return ring
 
 
+def ring_nodes(ring):
+    """Return the nodes of a ring; the first one is also the last one."""
+    nodes = [way[0] for way in ring]
+    return nodes[-1:] + nodes
+
+
 def slopes_or_ring(ways, share):
     """Return slopes for the share and None, or None and a ring with a greater share.
 

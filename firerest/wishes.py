@@ -3,7 +3,7 @@
 from firerest.leads import check_walk, lead_sum
 from firerest.rings import basic_rings
 from firerest.scenes import Scene
-from firerest.slopes import slopes_or_ring
+from firerest.slopes import ring_nodes, slopes_or_ring
 
 THIRD = (1, 3)
 
@@ -57,5 +57,4 @@ def wish(web, sums):
     slopes, ring = slopes_or_ring(ways, THIRD)
     if ring is None:
         return Wish(Scene(web, [slope % 3 for slope in slopes]), ())
-    places = [way[0] for way in ring]
-    return Wish(None, tuple(places[-1:] + places))
+    return Wish(None, tuple(ring_nodes(ring)))
