@@ -43,6 +43,13 @@ def next_masks(near, masks, poked):
     return reached & ~(fired | resting), fired
 
 
+def idle_places(web, masks):
+    """Return the places that are ready and stay so for a beat, if they are not poked."""
+    fired, resting = masks
+    every = (1 << web.size) - 1
+    return places_of(every & ~(fired | resting | spread(web.masks, fired)))
+
+
 def add_firings(many, along, times):
     """Add to `many` each place's firings in the masks of `along`, `times` times."""
     for fired, _ in along:

@@ -1,11 +1,11 @@
 """Leading: which scenes can be reached from which others by pokes, and how soon."""
 
-from firerest.beats import masks_of_scene, next_masks
+from firerest.beats import idle_places, masks_of_scene, next_masks
 from firerest.books import Book
 from firerest.far import far_turns
 from firerest.lags import check_same_web, gap_masks, lags, tight_places, unlike_ring
 from firerest.leads import lead_sum
-from firerest.masks import mask_of, places_of, spread
+from firerest.masks import mask_of, places_of
 from firerest.scenes import turned
 from firerest.shapes import piece_of
 from firerest.webs import is_ring
@@ -74,13 +74,6 @@ def waiting_book(one, needs, beats):
         pokes.extend([(beat, place) for place in poked])
         masks = next_masks(web.masks, masks, mask_of(poked))
     return Book(pokes)
-
-
-def idle_places(web, masks):
-    """Return the places that are ready and stay so for a beat, if they are not poked."""
-    fired, resting = masks
-    every = (1 << web.size) - 1
-    return places_of(every & ~(fired | resting | spread(web.masks, fired)))
 
 
 def tight_ring(scene, place):

@@ -37,7 +37,8 @@ HELD = {
     "SharePaper": ("share", "ring", "slopes"), "PacedPaper": ("share", "ring", "slopes"),
     "Repeat": ("first", "period", "gains"), "Wish": ("scene", "ring"),
     "Leading": ("book", "ring", "place", "lag", "waits"),
-    "Watch": ("scene", "beats", "records", "suspects"),
+    "Watch": ("scene", "beats", "records", "suspects"), "Cuts": ("places", "tree"),
+    "Sheet": ("weave", "deeds"),
 }
 
 # Nothing of the program equals one of these.
@@ -295,3 +296,54 @@ def gap_of(scene, a, b):
 def sum_of(step, scene, walk):
     """Return the sum over the steps of a walk, by `lead_of` or `gap_of`."""
     return sum(step(scene, a, b) for a, b in zip(walk, walk[1:]))
+
+
+# Oracles for watches
+
+def subsets(items):
+    """Return all subsets of the items, as tuples."""
+    return [chosen for many in range(len(items) + 1) for chosen in itertools.combinations(items, many)]
+
+
+def runs_with(scene, beats, suspects):
+    """Return (pokes, pictures) for every book of the suspects that pokes before `beats`."""
+    near = near_of(scene.web)
+    runs = [((), (tuple(scene.picture),))]
+    for beat in range(beats):
+        runs = [(pokes + tuple((beat, place) for place in poked),
+                 pictures + (next_picture(near, pictures[-1], poked),))
+                for pokes, pictures in runs for poked in subsets(suspects)]
+    return runs
+
+
+def shows_records(pictures, records):
+    """Tell whether the pictures show what was recorded."""
+    return all(tuple(picture[place] for picture in pictures) == tuple(states)
+               for place, states in records)
+
+
+def records_of(scene, beats, pokes, places):
+    """Return the records of some places in a run."""
+    pictures = pictures_of(scene, beats, pokes)
+    return [(place, tuple(picture[place] for picture in pictures)) for place in places]
+
+
+def random_course(chance, state, beats):
+    """Return states that a place may have one after another, whatever is around it."""
+    found = [state]
+    for _ in range(beats):
+        found.append((found[-1] + 1) % 3 if found[-1] else chance.choice((0, 0, 1)))
+    return tuple(found)
+
+
+def random_records(chance, scene, beats, suspects):
+    """Return records that may have a story of the suspects, or may have none."""
+    size = scene.web.size
+    places = chance.sample(range(size), chance.randint(0, min(size, chance.choice((1, 2, 3, 60)))))
+    way = chance.randrange(4)
+    if way == 0:
+        return [(place, random_course(chance, scene.picture[place], beats)) for place in places]
+    pokers = suspects if way < 3 else range(size)
+    times = chance.choice((1, 3, beats + 1))
+    pokes = [(chance.randrange(beats), chance.choice(pokers)) for _ in range(times) if pokers and beats]
+    return records_of(scene, beats, pokes, places)

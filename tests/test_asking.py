@@ -6,13 +6,16 @@ import unittest
 from firerest.backs import age, back, before_count, befores, is_seen, latest_start
 from firerest.blocks import blocks
 from firerest.books import Book, Pace
+from firerest.cuts import fewest_cuts, is_cut_tree
 from firerest.errors import FirerestError
 from firerest.far import far_counts, far_run, far_turns, lead_table
 from firerest.fates import fates, is_silent
+from firerest.foldings import folded, folding, is_even
 from firerest.lags import lags, tight_places, unlike_ring
 from firerest.leading import can_lead, is_never, leading, least_beats, why_never
 from firerest.leads import gap, gap_sum, lead, lead_sum
 from firerest.longwalks import long_walk, row_facts
+from firerest.refutations import is_refutation, refutation
 from firerest.repeats import repeat, repeat_counts, repeat_run
 from firerest.rings import basic_rings, forest, heights, ring_sums, uneven_ring
 from firerest.runs import counts, film, firings, run, step, turns, waits
@@ -20,8 +23,10 @@ from firerest.scenes import Scene, all_ready, beside, mirror, part, picture_text
 from firerest.scenes import scene_of_text, taken_out, turned
 from firerest.shapes import distances, joined, parted, piece_of, pieces
 from firerest.shares import are_slopes, is_share_ring, share, share_paper
+from firerest.stories import is_story, least_turns, most_turns, must, story, story_with
 from firerest.tables import Table, greatest_gains, one_table, power
 from firerest.trails import best_trail, trail_gain
+from firerest.unrollings import unrolled
 from firerest.watches import Watch
 from firerest.webs import Web, is_ring, is_walk
 from firerest.wheels import are_paced_slopes, is_paced_ring, paced_paper, paced_share
@@ -118,6 +123,27 @@ def questions_of_backs(scene, book):
     return found + [(Watch, (scene, 1, records + records, (place,))) for place in (0, -1)]
 
 
+def questions_of_watches(scene, book):
+    """Return questions about stories, refutations, cuts, foldings and unrollings."""
+    web, small = scene.web, part(scene, tuple(range(min(scene.web.size, 9))))
+    shown_at = [run(scene, beat, book).picture for beat in range(5)]
+    found = [(folding, (scene,)), (folded, (scene,)), (is_even, (scene, scene.picture)), (is_even, (scene, ()))]
+    for suspects in ((), (0,), tuple(range(web.size))):
+        for places in ((), (1,), (0, 1)):
+            records = [(place, [picture[place] for picture in shown_at]) for place in places]
+            watch = Watch(scene, 4, records, suspects)
+            none = ((None,) * web.size,) * 5
+            found += [(function, (watch,)) for function in (story, must, refutation)]
+            found += [(is_story, (watch, tried)) for tried in (book, book.until(4), Book())]
+            found.append((is_refutation, (watch, none, ((0,) * web.size,) * 5)))
+            for place in (0, 1, web.size, -1):
+                found += [(function, (watch, place, 4)) for function in (most_turns, least_turns)]
+                found += [(story_with, (watch, place, 4, many)) for many in (0, 2, FAR)]
+    for pair in ((0, 1), (1, 5), (1, 3)):
+        found += [(fewest_cuts, (small, pair)), (is_cut_tree, (small, pair, 0, ((0, 1, 0), ())))]
+    return found + [(unrolled, (scene, ways, (shift,) * len(web))) for ways, shift in ((1, 0), (3, 1), (3, -1))]
+
+
 def questions_of_rest(book, pace, table):
     """Return questions about a book, a pace and a table."""
     found = [(Book, (book.pokes,)), (Pace, (pace.period, pace.pokes)), (Table, (table.rows,))]
@@ -152,7 +178,7 @@ class AskingTest(Case):
             asked += questions_of_web(scene.web) + questions_of_scene(scene, book)
             asked += questions_of_rest(book, pace, table)
             asked += questions_of_trails(scene, book) + questions_of_paces(scene, pace)
-            asked += questions_of_backs(scene, book)
+            asked += questions_of_backs(scene, book) + questions_of_watches(scene, book)
         before = [shown(thing) for thing in things]
         answers = [told(question) for question in asked]
         for question, answer in zip(asked, answers):
@@ -175,7 +201,7 @@ class AskingTest(Case):
             other = Book([[5, 1], [FAR, 2], [2, 3], [2, 3]])
             for question, again in zip(questions_of_scene(one, book), questions_of_scene(two, other)):
                 self.assertEqual(told(question), told(again), question)
-            for function in (questions_of_trails, questions_of_backs):
+            for function in (questions_of_trails, questions_of_backs, questions_of_watches):
                 for question, again in zip(function(one, book), function(two, other)):
                     self.assertEqual(told(question), told(again), question)
             paces = Pace(4, [(3, 1), (2, 0)]), Pace(4, [[2, 0], [3, 1], [2, 0]])

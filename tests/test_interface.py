@@ -24,6 +24,11 @@ FUNCTIONS = {
     "lags": ("lags", "unlike_ring", "tight_places"),
     "leading": ("leading", "can_lead", "why_never", "is_never", "least_beats"),
     "backs": ("back", "is_seen", "latest_start", "age", "befores", "before_count"),
+    "stories": ("story", "is_story", "most_turns", "least_turns", "story_with", "must"),
+    "refutations": ("refutation", "is_refutation"),
+    "cuts": ("fewest_cuts", "is_cut_tree"),
+    "foldings": ("folding", "is_even", "folded"),
+    "unrollings": ("unrolled",),
 }
 
 METHODS = {
@@ -40,6 +45,8 @@ METHODS = {
     ("wishes", "Wish"): (),
     ("leading", "Leading"): (),
     ("watches", "Watch"): ("__init__",),
+    ("cuts", "Cuts"): (),
+    ("sheets", "Sheet"): ("__init__", "__eq__"),
 }
 
 

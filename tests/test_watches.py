@@ -7,7 +7,7 @@ import unittest
 from firerest.scenes import Scene, all_ready
 from firerest.watches import Watch
 from firerest.webs import Web
-from tests.support import FAR, NO_PLACES, Case, pictures_of, random_pokes, random_scenes, ring_scene
+from tests.support import FAR, NO_PLACES, Case, random_pokes, random_scenes, records_of, ring_scene
 from tests.support import thread_lines
 
 NOTHING = Scene(Web(0), [])
@@ -28,12 +28,6 @@ def fault_of(scene, beats, records):
                for here, there in zip(states, states[1:])):
             return index
     return None
-
-
-def records_of(scene, beats, pokes, places):
-    """Return the records of some places in a run."""
-    pictures = pictures_of(scene, beats, pokes)
-    return [(place, tuple(picture[place] for picture in pictures)) for place in places]
 
 
 class WatchTest(Case):
