@@ -12,7 +12,7 @@ import sys
 
 BUILTINS = set("""len range enumerate zip min max sum abs sorted reversed int str bool list tuple dict
     set isinstance ord repr any all divmod Exception ValueError TypeError KeyError IndexError
-    LookupError ZeroDivisionError NotImplemented iter next pow getattr hasattr setattr
+    LookupError ZeroDivisionError NotImplemented iter next pow getattr hasattr setattr super
     True False None""".split())
 METHODS = set("""append clear copy count endswith extend find get index insert isalnum isalpha isdigit
     islower isspace isupper items join keys ljust lower lstrip partition pop remove replace reverse
@@ -122,6 +122,23 @@ class Look:
             for name in names:
                 if name in module_names or name in classes or hasattr(builtins, name):
                     self.say(node, "L15", name + " means something else already")
+
+    def table_rules(self):
+        """Look at how lists and dicts of module level are used: they are only read."""
+        tables = []
+        for path in self.package.glob("*.py"):
+            for item in ast.parse(path.read_text()).body:
+                if isinstance(item, ast.Assign) and isinstance(item.value, (ast.Dict, ast.List)):
+                    tables.append(item.targets[0].id)
+        for node in ast.walk(self.tree):
+            if not (isinstance(node, ast.Name) and node.id in tables and isinstance(node.ctx, ast.Load)):
+                continue
+            above = self.above[node]
+            read = isinstance(above, (ast.Compare, ast.For, ast.comprehension))
+            read = read or isinstance(above, ast.Subscript) and isinstance(above.ctx, ast.Load)
+            read = read or isinstance(above, ast.Attribute) and above.attr in ("get", "items", "keys", "values")
+            if not (read or called(above) in EATERS):
+                self.say(node, "L15", node.id + " is not only read")
 
     def function_rules(self, node):
         """Look at one function."""
@@ -242,6 +259,7 @@ def main():
         look.text_rules()
         look.module_rules()
         look.node_rules()
+        look.table_rules()
         faults += look.faults
     for path in package.iterdir():
         if path.suffix != ".py" and path.name != "__pycache__":

@@ -9,8 +9,8 @@ def refutation(watch):
     caps = caps_of(watch, {})
     if is_capped_below(caps):
         # The caps alone show it. No place has more turns than beats.
-        places = range(watch.scene.web.size)
-        return caps, tuple([tuple([beat for _ in places]) for beat in range(watch.beats + 1)])
+        size = watch.scene.web.size
+        return caps, tuple([(beat,) * size for beat in range(watch.beats + 1)])
     _, rows = fullest_run(watch, caps, watch.suspects)
     return (caps, rows) if is_short(watch, rows) else None
 

@@ -25,6 +25,7 @@ SHEET_ERRORS = (
     "UnknownWord", "WordCount", "BadWord", "NameTaken", "TooLarge", "UnknownName", "BadSigns",
     "BadTie", "Misplaced", "OpenBlock",
 )
+FIELDS.update({name: ("line",) for name in SHEET_ERRORS})
 
 # Each is passed for a place of a web with this size, which it is not.
 NO_PLACES = (-1, -2, -10 ** 30, 10 ** 30, -FAR - 1)
@@ -38,7 +39,7 @@ HELD = {
     "Repeat": ("first", "period", "gains"), "Wish": ("scene", "ring"),
     "Leading": ("book", "ring", "place", "lag", "waits"),
     "Watch": ("scene", "beats", "records", "suspects"), "Cuts": ("places", "tree"),
-    "Sheet": ("weave", "deeds"),
+    "Sheet": ("weave", "deeds"), "Woven": ("scene", "names"), "Bench": ("scene", "beats", "counts"),
 }
 
 # Nothing of the program equals one of these.

@@ -9,12 +9,15 @@ from firerest.books import Book, Pace
 from firerest.cuts import fewest_cuts, is_cut_tree
 from firerest.errors import FirerestError
 from firerest.far import far_counts, far_run, far_turns, lead_table
+from firerest.farplaying import play_far
 from firerest.fates import fates, is_silent
 from firerest.foldings import folded, folding, is_even
 from firerest.lags import lags, tight_places, unlike_ring
 from firerest.leading import can_lead, is_never, leading, least_beats, why_never
 from firerest.leads import gap, gap_sum, lead, lead_sum
 from firerest.longwalks import long_walk, row_facts
+from firerest.playing import play
+from firerest.reading import read_sheet
 from firerest.refutations import is_refutation, refutation
 from firerest.repeats import repeat, repeat_counts, repeat_run
 from firerest.rings import basic_rings, forest, heights, ring_sums, uneven_ring
@@ -23,14 +26,18 @@ from firerest.scenes import Scene, all_ready, beside, mirror, part, picture_text
 from firerest.scenes import scene_of_text, taken_out, turned
 from firerest.shapes import distances, joined, parted, piece_of, pieces
 from firerest.shares import are_slopes, is_share_ring, share, share_paper
+from firerest.sheets import Sheet
 from firerest.stories import is_story, least_turns, most_turns, must, story, story_with
 from firerest.tables import Table, greatest_gains, one_table, power
 from firerest.trails import best_trail, trail_gain
 from firerest.unrollings import unrolled
 from firerest.watches import Watch
+from firerest.weaving import woven
 from firerest.webs import Web, is_ring, is_walk
 from firerest.wheels import are_paced_slopes, is_paced_ring, paced_paper, paced_share
 from firerest.wishes import has_wish, wish, wished_sum
+from firerest.writing import write_sheet
+from tests.sheet_support import random_text
 from tests.support import FAR, Case, has_list, random_scene, ring_lines, shown
 
 
@@ -144,6 +151,17 @@ def questions_of_watches(scene, book):
     return found + [(unrolled, (scene, ways, (shift,) * len(web))) for ways, shift in ((1, 0), (3, 1), (3, -1))]
 
 
+def questions_of_sheets(chance):
+    """Return questions about texts and sheets."""
+    found = []
+    for numbers in ((0, 1, 3), (2, FAR)):
+        text = random_text(chance, 4, numbers, 9)
+        sheet = read_sheet(text)
+        found += [(read_sheet, (text,)), (read_sheet, (text + "\nthread",)), (Sheet, (sheet.weave, sheet.deeds))]
+        found += [(function, (sheet,)) for function in (write_sheet, woven, play, play_far)]
+    return found
+
+
 def questions_of_rest(book, pace, table):
     """Return questions about a book, a pace and a table."""
     found = [(Book, (book.pokes,)), (Pace, (pace.period, pace.pokes)), (Table, (table.rows,))]
@@ -179,6 +197,7 @@ class AskingTest(Case):
             asked += questions_of_rest(book, pace, table)
             asked += questions_of_trails(scene, book) + questions_of_paces(scene, pace)
             asked += questions_of_backs(scene, book) + questions_of_watches(scene, book)
+            asked += questions_of_sheets(chance)
         before = [shown(thing) for thing in things]
         answers = [told(question) for question in asked]
         for question, answer in zip(asked, answers):

@@ -60,7 +60,8 @@ class ExamplesTest(unittest.TestCase):
                   "leads": 2, "rings": 2, "tables": 2, "far": 2, "trails": 2, "longwalks": 1,
                   "fates": 2, "shares": 2, "wheels": 1, "repeats": 2, "wishes": 1, "lags": 2,
                   "leading": 2, "backs": 2, "watches": 1, "stories": 2, "refutations": 1,
-                  "cuts": 1, "foldings": 1, "unrollings": 1}
+                  "cuts": 1, "foldings": 1, "unrollings": 1, "reading": 2, "writing": 1,
+                  "weaving": 1, "benches": 1, "farplaying": 3}
         self.assertEqual(many, {f"firerest/{name}.py": count for name, count in wanted.items()})
 
 

@@ -1,6 +1,9 @@
 """The names of the interface: each is defined in the file that lists it."""
 
 import importlib
+import inspect
+import pathlib
+import re
 import unittest
 
 FUNCTIONS = {
@@ -29,6 +32,11 @@ FUNCTIONS = {
     "cuts": ("fewest_cuts", "is_cut_tree"),
     "foldings": ("folding", "is_even", "folded"),
     "unrollings": ("unrolled",),
+    "reading": ("read_sheet",),
+    "writing": ("write_sheet",),
+    "weaving": ("woven",),
+    "playing": ("play",),
+    "farplaying": ("play_far",),
 }
 
 METHODS = {
@@ -47,10 +55,54 @@ METHODS = {
     ("watches", "Watch"): ("__init__",),
     ("cuts", "Cuts"): (),
     ("sheets", "Sheet"): ("__init__", "__eq__"),
+    ("weaving", "Woven"): (),
+    ("benches", "Bench"): ("__init__", "run", "jump", "poke", "cut", "tie", "untie"),
+    ("benches", "Trial"): ("__init__", "__enter__", "__exit__"),
 }
 
 
+# The arguments of what the headings do not show, but the points do.
+SHOWN = {
+    "webs.Web": "size, lines=()", "webs.Web.near": "self, place", "scenes.Scene": "web, picture",
+    "books.Book": "pokes=()", "books.Book.at": "self, beat", "books.Book.until": "self, beats",
+    "books.Book.since": "self, beats", "books.Book.about": "self, beats", "books.Book.within": "self, other",
+    "books.Pace": "period, pokes=()", "books.Pace.at": "self, beat", "books.Pace.book": "self, beats",
+    "books.Pace.since": "self, beats", "tables.Table": "rows", "tables.Table.gain": "self, a, b",
+    "watches.Watch": "scene, beats, records, suspects", "sheets.Sheet": "weave, deeds",
+    "benches.Bench": "scene", "benches.Bench.run": "self, beats", "benches.Bench.jump": "self, beats",
+    "benches.Bench.poke": "self, places", "benches.Bench.cut": "self, place", "benches.Bench.tie": "self, a, b",
+    "benches.Bench.untie": "self, a, b", "benches.Trial": "bench",
+}
+EXAMPLES = pathlib.Path(__file__).parent / "examples.md"
+
+
+def headings():
+    """Return (module, function, arguments) for each function that a heading of the interface shows."""
+    found, module = [], None
+    for line in EXAMPLES.read_text().split("\n"):
+        if line.startswith("## firerest/"):
+            module = line[len("## firerest/"):-len(".py")]
+        elif line.startswith("- "):
+            # What is created stands there as a call, too; it begins with a capital.
+            found += [(module, name, told) for name, told in re.findall(r"`([a-z_]+)\(([^`]*)\)`", line)]
+    return found
+
+
 class InterfaceTest(unittest.TestCase):
+
+    def test_arguments(self):
+        names = set()
+        for module, name, told in headings():
+            names.add((module, name))
+            function = getattr(importlib.import_module("firerest." + module), name)
+            self.assertEqual(str(inspect.signature(function)), f"({told})")
+        self.assertEqual(names, {(module, name) for module, row in FUNCTIONS.items() for name in row})
+        for way, told in SHOWN.items():
+            module, *steps = way.split(".")
+            found = importlib.import_module("firerest." + module)
+            for step in steps:
+                found = getattr(found, step)
+            self.assertEqual(str(inspect.signature(found)), f"({told})")
 
     def test_functions(self):
         for name, functions in FUNCTIONS.items():
