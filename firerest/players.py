@@ -6,7 +6,7 @@ from firerest.fates import fate_of
 from firerest.scenes import picture_text
 from firerest.shapes import piece_of
 from firerest.shares import share
-from firerest.weaving import woven
+from firerest.weaving import place_number, woven
 from firerest.words import STATES, place_text
 
 
@@ -21,9 +21,7 @@ class Player:
 
     def number(self, place):
         """Return the number of the place with this name and index."""
-        name, index = place
-        first, _ = self.spans[name]
-        return first + index
+        return place_number(self.spans, place)
 
     def do_all(self, deeds):
         """Do the deeds one after another."""

@@ -21,12 +21,6 @@ class Loom:
         self.lines = []
         self.picture = []
 
-    def number(self, place):
-        """Return the number of the place with this name and index."""
-        name, index = place
-        first, _ = self.spans[name]
-        return first + index
-
     def make(self, maker, name, numbers):
         """Make new places with a name."""
         first = len(self.picture)
@@ -46,6 +40,16 @@ class Loom:
         self.picture[first:first + many] = [SIGNS.find(sign) for sign in signs]
 
 
+def place_number(spans, place):
+    """Return the number of the place with this name and index.
+
+    `spans` has the first place and the number of places of each name.
+    """
+    name, index = place
+    first, _ = spans[name]
+    return first + index
+
+
 def woven(sheet):
     """Return the scene that the declarations of the sheet make."""
     loom = Loom()
@@ -60,8 +64,8 @@ def weave_row(loom, row):
     if row[0] in MAKERS:
         loom.make(row[0], row[1], row[2:])
     elif row[0] == "tie":
-        loom.lines.append((loom.number(row[1]), loom.number(row[2])))
+        loom.lines.append((place_number(loom.spans, row[1]), place_number(loom.spans, row[2])))
     elif row[0] == "drop":
-        loom.drop(loom.number(row[1]))
+        loom.drop(place_number(loom.spans, row[1]))
     else:
         loom.tell(row[1], row[2])
